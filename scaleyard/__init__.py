@@ -1,0 +1,1 @@
+"""Scaleyard: bounds on sums, points that keep them, and weights that show why not."""

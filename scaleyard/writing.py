@@ -1,0 +1,19 @@
+"""The texts of yards."""
+
+from scaleyard.errors import NoYard
+from scaleyard.things import is_yard
+
+
+def written_bound(bound):
+    words = [str(number) for number in bound[0]]
+    words.append("below")
+    words.append(str(bound[1]))
+    return " ".join(words)
+
+
+def written(yard, wide):
+    if not is_yard(yard, wide):
+        raise NoYard("what is no yard is not written")
+    if len(yard) == 0:
+        return "free"
+    return " ; ".join([written_bound(bound) for bound in yard])
