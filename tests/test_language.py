@@ -20,6 +20,13 @@ ArithmeticError OverflowError RuntimeError NotImplementedError AttributeError St
 
 METHODS = set("__init__ __eq__ __repr__ __str__ __len__".split())
 
+OWN_METHODS = set("""append clear copy count endswith extend find get index insert isalnum isalpha isdigit islower
+isspace isupper items join keys ljust lower lstrip partition pop remove replace reverse rfind rjust rpartition rsplit
+rstrip setdefault split splitlines startswith strip update upper values zfill bit_length""".split())
+
+# Where Python's ValueError is taken, nothing but one of these is called.
+CALLED_AS_IT_FAILS = set("int str index remove".split())
+
 WORDS_LEFT_OUT = re.compile(
     r"\b(type|typing|typing_extensions|enum|Enum|IntEnum|StrEnum|Flag|IntFlag|Generic|Protocol|ABC|ABCMeta|namedtuple"
     r"|NamedTuple|TypedDict|TYPE_CHECKING|abstractmethod)\b|dataclass|overload|contextmanager")
@@ -35,6 +42,20 @@ def bound_names(tree):
             yield node.id
         elif isinstance(node, ast.ExceptHandler) and node.name:
             yield node.name
+
+
+def top_names(tree):
+    """The names that a file itself gives a meaning at its top; what it imports is not among them."""
+    for node in tree.body:
+        if isinstance(node, (ast.FunctionDef, ast.ClassDef)):
+            yield node.name
+        elif isinstance(node, ast.Assign):
+            yield node.targets[0].id
+
+
+def called_names(node):
+    calls = [part.func for part in ast.walk(node) if isinstance(part, ast.Call)]
+    return [func.id if isinstance(func, ast.Name) else func.attr for func in calls]
 
 
 class LanguageTest(unittest.TestCase):
@@ -89,6 +110,42 @@ class LanguageTest(unittest.TestCase):
                     self.assertEqual(node.level, 0)
                     self.assertRegex(node.module, r"^scaleyard\.[a-z0-9_]+$")
                     self.assertNotIn("*", [alias.name for alias in node.names])
+
+    def test_imports_draw_from_where_a_name_is_defined_and_never_in_a_ring(self):
+        drawn = {}
+        defined = {}
+        for name, text, tree in self.each():
+            module = "scaleyard." + name[:-len(".py")]
+            defined[module] = list(top_names(tree))
+            self.assertEqual(len(defined[module]), len(set(defined[module])), name)
+            drawn[module] = [node for node in tree.body if isinstance(node, ast.ImportFrom)]
+        for nodes in drawn.values():
+            for node in nodes:
+                self.assertEqual({alias.name for alias in node.names} - set(defined[node.module]), set(), node.module)
+        left = dict(drawn)
+        while left:
+            free = [module for module in left if not any(node.module in left for node in left[module])]
+            self.assertTrue(free, sorted(left))
+            for module in free:
+                del left[module]
+
+    def test_methods_of_python_s_own_values(self):
+        for name, text, tree in self.each():
+            self.assertFalse([node for node in ast.walk(tree) if isinstance(node, ast.Attribute)
+                              and node.attr not in OWN_METHODS], name)
+
+    def test_is_stands_beside_none_and_truths_alone(self):
+        for name, text, tree in self.each():
+            for node in ast.walk(tree):
+                if isinstance(node, ast.Compare) and isinstance(node.ops[0], (ast.Is, ast.IsNot)):
+                    self.assertIn(repr(getattr(node.comparators[0], "value", 0)), ("None", "True", "False"), name)
+
+    def test_value_errors_of_python_are_taken_round_one_call_alone(self):
+        for name, text, tree in self.each():
+            for node in ast.walk(tree):
+                if isinstance(node, ast.Try) and "ValueError" in [ast.unparse(way.type) for way in node.handlers]:
+                    self.assertEqual((len(node.body), len(called_names(node.body[0]))), (1, 1), name)
+                    self.assertIn(called_names(node.body[0])[0], CALLED_AS_IT_FAILS, name)
 
     def test_names(self):
         builtin_names = set(dir(builtins))
