@@ -5,26 +5,12 @@ import itertools
 import unittest
 from fractions import Fraction
 
-from samples import WIDES, row_of, yard_of
+from samples import WIDES, drawn_yards, row_of, yard_of
 from scaleyard.keeping import kept, middle
 from scaleyard.things import is_point
+from sums import HUGE, as_point, corners, kept_by_fractions, same_point, unknowns
 
-HUGE = 10 ** 60
 DIVISORS = (1, 2, 3, 7, 1000001, HUGE)
-
-
-def unknowns(point):
-    return [Fraction(number, point[1]) for number in point[0]]
-
-
-def kept_by_fractions(bounds, point):
-    """By parts of numbers: another way than the program's."""
-    at = unknowns(point)
-    return all(sum(number * part for number, part in zip(row, at)) <= limit for row, limit in bounds)
-
-
-def same_point(point, times):
-    return tuple(number * times for number in point[0]), point[1] * times
 
 
 def small_points(wide):
@@ -193,6 +179,14 @@ class MiddleTest(unittest.TestCase):
                 self.assertIs(kept(yard, middle(one, other)), True)
         on_the_edge = middle(corners[1], corners[2])
         self.assertIs(kept((((-1, -1), -1),), on_the_edge), True)
+
+    def test_half_way_between_points_of_drawn_yards(self):
+        for wide in WIDES:
+            for yard in drawn_yards(wide, 60):
+                ends = [as_point(at) for at in corners(yard, wide)]
+                for one, other in itertools.combinations(ends, 2):
+                    self.half_way(one, other)
+                    self.assertIs(kept_by_fractions(yard, middle(one, other)), True, (yard, one, other))
 
     def test_half_way_and_again(self):
         bounds = (((1, 0, 2), 9), ((-3, 1, 0), 4), ((0, -1, -1), 2))

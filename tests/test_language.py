@@ -24,6 +24,17 @@ OWN_METHODS = set("""append clear copy count endswith extend find get index inse
 isspace isupper items join keys ljust lower lstrip partition pop remove replace reverse rfind rjust rpartition rsplit
 rstrip setdefault split splitlines startswith strip update upper values zfill bit_length""".split())
 
+NAMES_LEFT_OUT = set("""register mro elements open input version_info with_traceback add_note attrgetter breakpoint
+builtins compile copyright credits delattr dir eval exec exit gc getattr globals hasattr help id importlib license
+locals methodcaller os quit setattr super type vars sys""".split())
+
+# What is walked on the spot, and what may walk it.
+WALKED = set("zip enumerate reversed range".split())
+WALKED_METHODS = set("items keys values".split())
+WALKERS = set("list tuple dict sorted sum any all enumerate zip".split())
+KEYWORDS = {"sorted": {"key", "reverse"}, "min": {"key", "default"}, "max": {"key", "default"}, "sum": {"start"},
+            "enumerate": {"start"}, "zip": {"strict"}}
+
 # Where Python's ValueError is taken, nothing but one of these is called.
 CALLED_AS_IT_FAILS = set("int str index remove".split())
 
@@ -56,6 +67,25 @@ def top_names(tree):
 def called_names(node):
     calls = [part.func for part in ast.walk(node) if isinstance(part, ast.Call)]
     return [func.id if isinstance(func, ast.Name) else func.attr for func in calls]
+
+
+def is_walked(node):
+    if not isinstance(node, ast.Call):
+        return False
+    if isinstance(node.func, ast.Name):
+        return node.func.id in WALKED
+    return isinstance(node.func, ast.Attribute) and node.func.attr in WALKED_METHODS
+
+
+def walked_on_the_spot(tree):
+    for node in ast.walk(tree):
+        if isinstance(node, (ast.For, ast.comprehension)):
+            yield node.iter
+        elif isinstance(node, ast.Call) and isinstance(node.func, ast.Name) and node.args:
+            if node.func.id in WALKERS or (node.func.id in ("min", "max") and len(node.args) == 1):
+                yield node.args[0]
+            if node.func.id == "zip":
+                yield from node.args
 
 
 class LanguageTest(unittest.TestCase):
@@ -147,6 +177,62 @@ class LanguageTest(unittest.TestCase):
                     self.assertEqual((len(node.body), len(called_names(node.body[0]))), (1, 1), name)
                     self.assertIn(called_names(node.body[0])[0], CALLED_AS_IT_FAILS, name)
 
+    def test_the_top_of_a_file(self):
+        for name, text, tree in self.each():
+            self.assertIsNotNone(ast.get_docstring(tree), name)
+            for node in tree.body[1:]:
+                self.assertIsInstance(node, (ast.ImportFrom, ast.FunctionDef, ast.ClassDef, ast.Assign), name)
+                if isinstance(node, ast.Assign):
+                    ast.literal_eval(node.value)
+
+    def test_statements(self):
+        for name, text, tree in self.each():
+            for node in ast.walk(tree):
+                self.assertNotIsInstance(node, ast.AnnAssign, name)
+                if isinstance(node, ast.Expr) and node is not tree.body[0]:
+                    self.assertIsInstance(node.value, ast.Call, name)
+                if isinstance(node, ast.FunctionDef):
+                    self.assertIsNone(node.returns, name)
+                if isinstance(node, ast.arg):
+                    self.assertIsNone(node.annotation, name)
+
+    def test_expressions(self):
+        for name, text, tree in self.each():
+            for node in ast.walk(tree):
+                if isinstance(node, ast.ListComp):
+                    self.assertEqual(len(node.generators), 1, name)
+                    self.assertLessEqual(len(node.generators[0].ifs), 1, name)
+                if isinstance(node, (ast.BinOp, ast.AugAssign)) and isinstance(node.op, ast.Pow):
+                    self.assertIn(getattr(getattr(node, "right", None), "value", None), range(65), name)
+
+    def test_what_is_walked_on_the_spot(self):
+        for name, text, tree in self.each():
+            walked = list(walked_on_the_spot(tree))
+            self.assertEqual([ast.unparse(node) for node in ast.walk(tree) if is_walked(node) and node not in walked],
+                             [], name)
+
+    def test_python_s_own_are_called_and_not_kept(self):
+        for name, text, tree in self.each():
+            called = [node.func for node in ast.walk(tree) if isinstance(node, ast.Call)]
+            beside = [part for node in ast.walk(tree) if isinstance(node, (ast.Call, ast.ClassDef, ast.ExceptHandler))
+                      and ast.unparse(getattr(node, "func", node)).startswith(("isinstance", "class", "except"))
+                      for part in ast.walk(node)]
+            for node in ast.walk(tree):
+                if isinstance(node, ast.Name) and node.id in OWN_NAMES:
+                    self.assertTrue(node in called or node in beside, (name, node.id))
+                if isinstance(node, ast.Call) and isinstance(node.func, ast.Name) and node.func.id in OWN_NAMES:
+                    words = {keyword.arg for keyword in node.keywords}
+                    self.assertEqual(words - KEYWORDS.get(node.func.id, set()), set(), name)
+
+    def test_no_local_is_called_like_an_import_or_a_class(self):
+        for name, text, tree in self.each():
+            drawn = [alias.name for node in tree.body if isinstance(node, ast.ImportFrom) for alias in node.names]
+            classes = [node.name for node in tree.body if isinstance(node, ast.ClassDef)]
+            local = [word for node in tree.body if isinstance(node, ast.FunctionDef)
+                     for word in bound_names(node) if word != node.name]
+            self.assertEqual(set(local) & set(drawn + classes), set(), name)
+            self.assertEqual(set(top_names(tree)) & set(drawn), set(), name)
+
     def test_names(self):
         builtin_names = set(dir(builtins))
         for name, text, tree in self.each():
@@ -154,6 +240,7 @@ class LanguageTest(unittest.TestCase):
             self.assertEqual(bound & builtin_names, set(), name)
             self.assertEqual([word for word in sorted(bound - METHODS) if word.startswith("_")], [], name)
             used = {node.id for node in ast.walk(tree) if isinstance(node, ast.Name)}
+            self.assertEqual((used | bound) & NAMES_LEFT_OUT, set(), name)
             self.assertEqual((used & builtin_names) - OWN_NAMES, set(), name)
 
 
